@@ -146,7 +146,7 @@ func TestAnyPrograms(t *testing.T) {
 
 // P1: each part of a valid program may be spoiled.
 func TestSpoiledPrograms(t *testing.T) {
-	for seed := range 4000 {
+	for seed := range 2000 {
 		p, r := made(t, 30000+seed)
 		f := &p.Funcs[r.Intn(len(p.Funcs))]
 		if len(f.Body) == 0 {

@@ -33,7 +33,7 @@ func checkRead(t *testing.T, p api.Program) api.Module {
 // P12.1: random programs have the modules of the second reading.
 func TestRandomPrograms(t *testing.T) {
 	count := map[api.Op]int{}
-	for seed := range 4000 {
+	for seed := range 2500 {
 		p, _ := made(t, seed)
 		for _, c := range checkRead(t, p).Codes {
 			for _, i := range c.Instrs {
@@ -95,7 +95,7 @@ func randomSource(r *rand.Rand) string {
 
 // P12.2: jumps stay within their function, and so does what follows any instruction.
 func TestPlacesStayWithin(t *testing.T) {
-	for seed := range 3000 {
+	for seed := range 1500 {
 		p, _ := made(t, seed)
 		m, e := Compile(p)
 		if e != api.OK || !code.Right(m) {
@@ -179,7 +179,7 @@ func renamedExprs(l []api.Expr, names map[string]string, at func() int) []api.Ex
 
 // P12.3: neither the names of variables nor offsets change the module.
 func TestNamesAndOffsets(t *testing.T) {
-	for seed := range 2000 {
+	for seed := range 1000 {
 		p, r := made(t, seed)
 		m, _ := Compile(p)
 		n := 0
